@@ -1,4 +1,4 @@
-// Package piece tells, place by place, the longest piece that stood before: what layers 13 and 14 cut a text by.
+// Package piece has the pieces of which layers 13, 14 and 16 make a text, and tells, place by place, the longest one that stood before.
 package piece
 
 import (
