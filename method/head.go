@@ -1,6 +1,9 @@
 package method
 
-import "cassone/model"
+import (
+	"cassone/count"
+	"cassone/model"
+)
 
 // How many of each a byte that tells Params has room for: all that may be are below.
 const (
@@ -8,8 +11,11 @@ const (
 	headLp = 5
 )
 
-// ppmHead is how many bytes tell an order and cells.
-const ppmHead = 4
+// cellsSize is how many bytes tell cells, and ppmHead how many an order and cells.
+const (
+	cellsSize = 3
+	ppmHead   = 1 + cellsSize
+)
 
 // putParams tells Params in a byte.
 func putParams(p model.Params) string {
@@ -24,10 +30,10 @@ func getParams(b byte) model.Params {
 
 // putContexts tells an order and cells.
 func putContexts(order, cells int) string {
-	return string([]byte{byte(order), byte(cells), byte(cells >> 8), byte(cells >> 16)})
+	return string([]byte{byte(order)}) + count.Put(cells, cellsSize)
 }
 
 // getContexts from so many bytes: their order and cells, that may be wrong.
 func getContexts(b string) (order, cells int) {
-	return int(b[0]), int(b[1]) | int(b[2])<<8 | int(b[3])<<16
+	return int(b[0]), count.Get(b[1:ppmHead])
 }
