@@ -20,6 +20,7 @@ func TestCount(t *testing.T) {
 		{1 << 24, 4, "\x00\x00\x00\x01"},
 		{0x89abcdef, 4, "\xef\xcd\xab\x89"},
 		{1<<32 - 1, 4, "\xff\xff\xff\xff"},
+		{1<<20 - 1, 8, "\xff\xff\x0f\x00\x00\x00\x00\x00"},
 	} {
 		if got := Put(c.n, c.size); got != c.bytes {
 			t.Errorf("Put(%d, %d): %x, want %x", c.n, c.size, got, c.bytes)
