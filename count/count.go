@@ -1,4 +1,4 @@
-// Package count has how methods and blocks tell how many there are of a thing, and keys which round it is: in so many bytes, the lowest first.
+// Package count has how methods, blocks, indexes and archives tell how many there are of a thing, and keys which round it is: in so many bytes, the lowest first.
 package count
 
 // Put a count in so many bytes.
